@@ -1,0 +1,72 @@
+"""The interface: names, arguments, and the file and class in which each of them is defined."""
+
+import inspect
+import unittest
+
+from worneven import chips, codes, errors
+from worneven.chips import Chip
+
+PAGE = "0123456789abcdef" * 16
+PROPERTIES = ("blocks", "pages", "wear", "bad", "done", "cuts", "is_on")
+METHODS = {
+    "read": ["self", "place"],
+    "write": ["self", "place", "cells"],
+    "erase": ["self", "block"],
+    "again": ["self"],
+    "fade": ["self", "place", "cell", "sign"],
+    "image": ["self"],
+    "copy": ["self"],
+    "__eq__": ["self", "other"],
+}
+
+
+class Interface(unittest.TestCase):
+    def test_methods_and_properties_are_defined_in_the_class_itself(self):
+        for name in METHODS:
+            self.assertTrue(inspect.isfunction(vars(Chip)[name]), name)
+            self.assertEqual(list(inspect.signature(vars(Chip)[name]).parameters), METHODS[name])
+        for name in PROPERTIES:
+            self.assertIn(name, vars(Chip))
+            self.assertTrue(hasattr(Chip(4, 4), name))
+
+    def test_parameters_of_a_chip(self):
+        parameters = inspect.signature(Chip).parameters
+        self.assertEqual(list(parameters), ["blocks", "pages", "faults"])
+        self.assertEqual(parameters["faults"].default, ())
+        self.assertIs(parameters["blocks"].default, inspect.Parameter.empty)
+
+    def test_functions_of_codes(self):
+        for name, parameter in (("sums", "cells"), ("sealed", "text"), ("opened", "cells")):
+            function = getattr(codes, name)
+            self.assertEqual(function.__module__, "worneven.codes")
+            self.assertEqual(list(inspect.signature(function).parameters), [parameter])
+
+    def test_files_of_classes(self):
+        self.assertEqual(chips.Chip.__module__, "worneven.chips")
+        for name, made in vars(errors).items():
+            if inspect.isclass(made):
+                self.assertEqual(made.__module__, "worneven.errors", name)
+
+    def test_arguments_by_name(self):
+        chip = Chip(pages=5, blocks=6, faults=((3, "bad", "0"),))
+        self.assertEqual((chip.blocks, chip.pages, Chip(6, 5, ((3, "bad", "0"),)) == chip), (6, 5, True))
+        self.assertIs(chip.write(cells=PAGE, place=7), True)
+        self.assertIsNone(chip.fade(sign="0", cell=1, place=7))
+        self.assertEqual(chip.read(place=7)[:3], "002")
+        self.assertIs(chip.erase(block=1), True)
+        self.assertEqual(codes.opened(cells=codes.sealed(text="by name")), ("whole", "by name"))
+        self.assertEqual(codes.sums(cells="f" * 256), (0, 0, 0))
+
+    def test_kinds_of_what_is_told(self):
+        chip = Chip(4, 4, ((9, "cut", "f"),))
+        kinds = [type(getattr(chip, name)) for name in PROPERTIES]
+        self.assertEqual(kinds, [int, int, tuple, tuple, int, int, bool])
+        self.assertIs(type(chip.image()), tuple)
+        self.assertIs(type(chip.copy()), Chip)
+        self.assertIsNone(chip.again())
+        self.assertIs(type(codes.sums(PAGE)), tuple)
+        self.assertIs(type(codes.opened(PAGE)), tuple)
+
+
+if __name__ == "__main__":
+    unittest.main()
