@@ -128,10 +128,7 @@ class Rules(unittest.TestCase):
             self.assertEqual(len(names), len(set(names)))
 
     def test_statements_and_expressions(self):
-        barred = (
-            ast.Lambda, ast.AsyncFunctionDef, ast.Await, ast.Import, ast.TryStar, ast.Yield, ast.YieldFrom, ast.Set,
-            ast.GeneratorExp, ast.NamedExpr, ast.Div, ast.MatMult,
-        )
+        barred = (ast.AsyncFunctionDef, ast.Await, ast.Import, ast.TryStar, ast.Div, ast.MatMult)
         for file, text, tree in self.each():
             for node in ast.walk(tree):
                 if isinstance(node, ast.stmt):
@@ -141,6 +138,14 @@ class Rules(unittest.TestCase):
                     self.assertNotIsInstance(node.value, (float, complex, bytes), f"{file}, line {node.lineno}")
                 if isinstance(node, ast.Constant) and isinstance(node.value, str):
                     self.assertTrue("%" not in node.value or is_docstring(tree, node), f"{file}, line {node.lineno}")
+
+    def test_what_takes_a_list_beside_an_own_equality(self):
+        for file, text, tree in self.each():
+            for node in ast.walk(tree):
+                if isinstance(node, ast.Call) and isinstance(node.func, ast.Name):
+                    if node.func.id in ("any", "all", "min", "max", "sum", "sorted"):
+                        told = [one for one in node.args if isinstance(one, ast.GeneratorExp)]
+                        self.assertEqual(told, [], f"{file}, line {node.lineno}")
 
     def test_decorators_and_methods(self):
         for file, text, tree in self.each():

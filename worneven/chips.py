@@ -8,13 +8,11 @@ NO_FAULT = ""
 
 
 def is_fault(value):
-    """Whether it is (at, word, pattern) by its form, whatever faults stand beside it."""
+    """Whether it is (at, word, pattern) by its form, whatever the integer at is."""
     if not isinstance(value, tuple) or len(value) != 3:
         return False
     at, word, pattern = value
-    if not is_integer(at) or at < 1:
-        return False
-    if not isinstance(word, str) or word not in ("cut", "bad"):
+    if not is_integer(at) or word not in ("cut", "bad"):
         return False
     return are_cells(pattern) and 1 <= len(pattern) <= PAGE_CELLS
 

@@ -61,7 +61,7 @@ def sign_of(number):
 
 
 def text_in(cells):
-    """The page text that the cells 0 to 225 tell; None if they tell none."""
+    """The text that the cells tell up to the first pair ff; None if a pair ahead of it tells no sign."""
     signs = []
     for at in range(0, TEXT_CELLS, 2):
         pair = cells[at:at + 2]
@@ -71,8 +71,7 @@ def text_in(cells):
         if sign is None:
             return None
         signs.append(sign)
-    behind = cells[2 * len(signs):TEXT_CELLS]
-    return "".join(signs) if behind == "f" * len(behind) else None
+    return "".join(signs)
 
 
 def lifted(cells):
@@ -96,6 +95,7 @@ def told_by(cells, right):
     text = text_in(right)
     if text is None:
         return None
+    # What stands behind the text, and whether the sums are right, only its sealed page can tell.
     page = page_of(text)
     if cells == page:
         return "whole", text
