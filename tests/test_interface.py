@@ -1,10 +1,12 @@
 """The interface: names, arguments, and the file and class in which each of them is defined."""
 
+import importlib
 import inspect
 import unittest
 
 from worneven import chips, codes, errors
 from worneven.chips import Chip
+from worneven.grounds import Ground
 
 PAGE = "0123456789abcdef" * 16
 PROPERTIES = ("blocks", "pages", "wear", "bad", "done", "cuts", "is_on")
@@ -19,8 +21,50 @@ METHODS = {
     "__eq__": ["self", "other"],
 }
 
+FUNCTIONS = {
+    "codes": {"sums": ["cells"], "sealed": ["text"], "opened": ["cells"]},
+    "maps": {
+        "map_get": ["look", "root", "key"], "map_items": ["look", "root", "low", "high"],
+        "map_with": ["look", "root", "changes"], "map_anew": ["look", "root"], "map_places": ["look", "root"],
+        "written": ["sheet", "places"], "sheet_in": ["text"],
+    },
+    "grounds": {"told_room": ["entries", "good", "pages"], "meaning": ["image", "pages"]},
+    "nodes": {
+        "node_key": ["number"], "name_key": ["number", "name"], "part_key": ["number", "part"], "node_value": ["node"],
+        "node_in": ["value"], "parts": ["text"], "wrong_keys": ["items"], "tree_of": ["items"], "items_of": ["tree"],
+    },
+    "walks": {
+        "walk": ["tree", "path"], "names_of": ["tree", "path"], "holding": ["tree", "path", "part"], "deepest": ["tree"],
+    },
+}
+GROUND = {
+    "get": ["self", "key"], "items": ["self", "low", "high"], "commit": ["self", "changes"], "gather": ["self"],
+    "room": ["self"],
+}
+
 
 class Interface(unittest.TestCase):
+    def test_functions_are_defined_in_their_files(self):
+        for name, functions in FUNCTIONS.items():
+            module = importlib.import_module("worneven." + name)
+            for function, parameters in functions.items():
+                found = vars(module)[function]
+                self.assertTrue(inspect.isfunction(found), function)
+                self.assertEqual((found.__module__, found.__name__), ("worneven." + name, function))
+                self.assertEqual(list(inspect.signature(found).parameters), parameters)
+                for parameter in inspect.signature(found).parameters.values():
+                    self.assertIs(parameter.kind, inspect.Parameter.POSITIONAL_OR_KEYWORD)
+
+    def test_the_ground(self):
+        self.assertEqual(Ground.__module__, "worneven.grounds")
+        self.assertEqual(list(inspect.signature(Ground).parameters), ["chip"])
+        for name, parameters in GROUND.items():
+            self.assertTrue(inspect.isfunction(vars(Ground)[name]), name)
+            self.assertEqual(list(inspect.signature(vars(Ground)[name]).parameters), parameters)
+        for name in ("number", "living", "chip"):
+            self.assertIn(name, vars(Ground))
+            self.assertTrue(hasattr(Ground(Chip(4, 4)), name))
+
     def test_methods_and_properties_are_defined_in_the_class_itself(self):
         for name in METHODS:
             self.assertTrue(inspect.isfunction(vars(Chip)[name]), name)
@@ -34,12 +78,6 @@ class Interface(unittest.TestCase):
         self.assertEqual(list(parameters), ["blocks", "pages", "faults"])
         self.assertEqual(parameters["faults"].default, ())
         self.assertIs(parameters["blocks"].default, inspect.Parameter.empty)
-
-    def test_functions_of_codes(self):
-        for name, parameter in (("sums", "cells"), ("sealed", "text"), ("opened", "cells")):
-            function = getattr(codes, name)
-            self.assertEqual(function.__module__, "worneven.codes")
-            self.assertEqual(list(inspect.signature(function).parameters), [parameter])
 
     def test_files_of_classes(self):
         self.assertEqual(chips.Chip.__module__, "worneven.chips")

@@ -1,9 +1,14 @@
-"""What several modules mean by an integer, by cells, by a page and by page text."""
+"""What several modules mean by integers, cells, page text, keys and values, names, paths and texts."""
 
 CELLS = "0123456789abcdef"
+FIGURES = "0123456789"
+NAME_SIGNS = "abcdefghijklmnopqrstuvwxyz0123456789.-"
 PAGE_CELLS = 256
 EMPTY_PAGE = "f" * 256
 MOST_PAGE_TEXT = 113
+MOST_KEY = 13
+MOST_NAME = 8
+MOST_TEXT = 600
 
 
 def is_integer(value):
@@ -14,6 +19,20 @@ def is_integer(value):
 def is_between(value, low, high):
     """Whether it is an integer from low to high."""
     return is_integer(value) and low <= value <= high
+
+
+def is_from(value, low):
+    """Whether it is an integer from low on."""
+    return is_integer(value) and low <= value
+
+
+def number_in(word):
+    """The integer from 0 on that stands in this string as Python writes it; None if none does."""
+    if word == "" or not all([sign in FIGURES for sign in word]):
+        return None
+    if word[0] == "0" and word != "0":
+        return None
+    return int(word)
 
 
 def are_cells(value):
@@ -36,8 +55,60 @@ def is_sign_number(number):
     return 32 <= number <= 126 and number != 37
 
 
+def are_signs(value, least, most):
+    """Whether it is a string of so many signs."""
+    if not isinstance(value, str) or not least <= len(value) <= most:
+        return False
+    return all([is_sign_number(ord(sign)) for sign in value])
+
+
 def is_page_text(value):
     """Whether it is page text: few enough signs and line feeds."""
     if not isinstance(value, str) or len(value) > MOST_PAGE_TEXT:
         return False
     return all([sign == "\n" or is_sign_number(ord(sign)) for sign in value])
+
+
+def is_key(value):
+    """Whether it is a key of a map."""
+    return are_signs(value, 1, MOST_KEY) and " " not in value
+
+
+def is_value(value):
+    """Whether it is a value of a map."""
+    return are_signs(value, 1, MOST_KEY)
+
+
+def are_keyed(value, may_be_none):
+    """Whether it is a tuple of (key, value), ascending by unlike keys; a value may be None if that is told."""
+    if not isinstance(value, tuple):
+        return False
+    last = ""
+    for row in value:
+        if not isinstance(row, tuple) or len(row) != 2 or not is_key(row[0]) or row[0] <= last:
+            return False
+        if not is_value(row[1]) and not (may_be_none and row[1] is None):
+            return False
+        last = row[0]
+    return True
+
+
+def is_name(value):
+    """Whether it is a name of a file or folder."""
+    if not isinstance(value, str) or not 1 <= len(value) <= MOST_NAME or value in (".", ".."):
+        return False
+    return all([sign in NAME_SIGNS for sign in value])
+
+
+def is_path(value):
+    """Whether it is a path: of the root folder, or of names."""
+    if value == "/":
+        return True
+    if not isinstance(value, str) or not value.startswith("/"):
+        return False
+    return all([is_name(name) for name in value[1:].split("/")])
+
+
+def is_text(value):
+    """Whether it is the text of a file."""
+    return are_signs(value, 0, MOST_TEXT)
