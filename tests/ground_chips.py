@@ -1,5 +1,7 @@
 """What tests of grounds share: chips that are watched at each deed, further faults, chips written by hand."""
 
+from map_pages import changed_dict as dict_behind
+from map_pages import sorted_items as items_of_dict
 from reading import plain_meaning
 from sealing import plain_sealed
 
@@ -7,22 +9,12 @@ from worneven.chips import Chip
 from worneven.errors import Cut
 from worneven.grounds import Ground
 
+__all__ = (
+    "ALL", "PATTERNS", "NotedChip", "WatchedChip", "cut_behind", "deeds_of", "dict_behind", "items_of_dict", "opened_anew",
+    "wear_promised", "with_faults", "written_chip",
+)
 PATTERNS = ("f", "0", "0f", "f0", "0123456789abcdef", "f" * 100 + "0" * 100 + "7", "0" * 200 + "f" * 56)
 ALL = ("!", "~" * 13)
-
-
-def items_of_dict(held):
-    return tuple(sorted(held.items()))
-
-
-def dict_behind(held, changes):
-    after = dict(held)
-    for key, value in changes:
-        if value is None:
-            after.pop(key, None)
-        else:
-            after[key] = value
-    return after
 
 
 class NotedChip(Chip):

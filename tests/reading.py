@@ -35,9 +35,9 @@ def text_in(cells):
 def sealed_texts_near(cells):
     """All texts whose sealed pages could have become these cells when one cell fell."""
     near = [cells]
+    # One cell that fell by so much changed the first sum by just that.
+    by = sum(15 - int(cell, 16) for cell in cells[:226]) - int(cells[226:229], 16)
     for at in range(226):
-        # One cell that fell by so much changed the first sum by just that.
-        by = sum(15 - int(cell, 16) for cell in cells[:226]) - int(cells[226:229], 16)
         worth = int(cells[at], 16) + by
         if by > 0 and worth <= 15:
             near.append(cells[:at] + SIGNS[worth] + cells[at + 1:])

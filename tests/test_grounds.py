@@ -5,6 +5,7 @@ import unittest
 from ground_chips import ALL, NotedChip, deeds_of, opened_anew, with_faults, written_chip
 from reading import plain_living, plain_meaning, plain_newest, plain_room, plain_text
 from refusals import assert_refused, seen
+from sealing import plain_sealed
 
 from worneven.chips import Chip
 from worneven.errors import Cut, Full, NoGround
@@ -136,6 +137,25 @@ class TheRing(unittest.TestCase):
         self.assertEqual(self.place_of_next(written_chip(5, 4, texts)), (12, []))
         texts[13] = "old"
         self.assertEqual(self.place_of_next(written_chip(5, 4, texts)), (12, [3]))
+
+    def test_no_block_is_passed_over_when_all_others_would_wear_too_much(self):
+        texts = {7: "root\n3\n10", 10: "l\na\none", 13: "old"}
+        worn = Chip(5, 4)
+        worn.erase(4)
+        for place in texts:
+            worn.write(place, plain_sealed(texts[place]))
+        # Were block 2 passed over, block 4 could be erased a second time ahead of its first.
+        before = seen(worn)
+        assert_refused(self, Full, None, Ground(worn).commit, ())
+        self.assertEqual(seen(worn), before)
+        # With a cut, or a bad block, it may be.
+        cut = with_faults(worn, ((1, "cut", "f"),))
+        assert_refused(self, Cut, None, cut.write, 19, EMPTY)
+        cut.again()
+        self.assertEqual(self.place_of_next(cut), (12, [3]))
+        bad = with_faults(worn, ((1, "bad", "f"),))
+        bad.erase(0)
+        self.assertEqual(self.place_of_next(bad), (12, [3]))
 
     def test_bad_blocks_are_passed_over(self):
         self.assertEqual(self.place_of_next(written_chip(6, 4, {7: "root\n3\n-"}, (2,))), (12, []))

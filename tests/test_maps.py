@@ -174,6 +174,17 @@ class MapEdges(unittest.TestCase):
         sheets, _ = map_with(PAGES.get, 9, (("c", "c"), ("d", None), ("f", "f")))
         self.assertEqual(sheets[-1][1][1][0], "e")
 
+    def test_what_is_left_alone_goes_to_a_neighbour_that_is_new_anyway(self):
+        texts = {0: "l\na\n1\nb\n2", 1: "l\nd\n1\ne\n2", 2: "l\ng\n1\nh\n2", 3: "f\na\n0\nd\n1\ng\n2"}
+        sheets, root = map_with(texts.get, 3, (("d", None), ("g", "new")))
+        self.assertEqual(sheets, (
+            ("leaf", (("e", "2"), ("g", "new"), ("h", "2"))), ("fork", (("a", 0), ("e", ("new", 0)))),
+        ))
+        sheets, root = map_with(texts.get, 3, (("a", "new"), ("d", None)))
+        self.assertEqual(sheets, (
+            ("leaf", (("a", "new"), ("b", "2"), ("e", "2"))), ("fork", (("a", ("new", 0)), ("g", 2))),
+        ))
+
     def test_a_map_may_become_an_elder_sheet(self):
         sheets, root = map_with(PAGES.get, 9, (("a", None), ("b", None)))
         pages = Pages()

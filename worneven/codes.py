@@ -18,7 +18,8 @@ def sums_of(body):
     first = 0
     second = 0
     third = 0
-    for place, cell in enumerate(body, 1):
+    # What is f behind all else lacks nothing.
+    for place, cell in enumerate(body.rstrip("f"), 1):
         lack = LACKS[cell]
         first += lack
         second += lack * place

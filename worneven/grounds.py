@@ -190,7 +190,7 @@ class Ground:
             self._write_anew()
         except Full:
             # The commit is done all the same, and the map stands as it was written.
-            return
+            pass
 
     def _entries_behind(self, changes):
         """How many entries the map is to have behind the changes."""

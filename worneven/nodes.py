@@ -2,7 +2,7 @@
 
 from worneven.errors import BadItems, BadName, BadNode, BadNumber, BadPart, BadText, BadValue
 from worneven.trees import MOST_NAMES, MOST_NODES, MOST_QUOTA, check_tree, folder_of, is_quota, name_of, path_in
-from worneven.words import FIGURES, MOST_TEXT, are_keyed, is_between, is_name, is_text, is_value, number_in
+from worneven.words import FIGURES, MOST_TEXT, are_keyed, has_only, is_between, is_name, is_text, is_value, number_in
 
 PART = 12
 MOST_PART = 49
@@ -92,7 +92,7 @@ def parts(text):
 
 def figures_in(word, many):
     """The number in a word of just so many figures; None if it is no such word."""
-    if len(word) != many or not all([sign in FIGURES for sign in word]):
+    if len(word) != many or not has_only(word, FIGURES):
         return None
     return int(word)
 

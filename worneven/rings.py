@@ -104,7 +104,7 @@ class Ring:
         for step in range(1, blocks + 1):
             other = (block + step) % blocks
             if other in kept and other not in bad:
-                # All others may be erased once more ahead of it: for that there must have been faults enough.
+                # Others may be erased once more ahead of it, if there were cuts and bad blocks enough for that.
                 if self._chip.wear[other] + self._chip.cuts + len(bad) < most:
                     return None
             elif other not in bad:

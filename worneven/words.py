@@ -26,9 +26,15 @@ def is_from(value, low):
     return is_integer(value) and low <= value
 
 
+def has_only(text, signs):
+    """Whether all characters of the string are among these signs."""
+    # What is stripped off both ends stops at the first other one.
+    return text.strip(signs) == ""
+
+
 def number_in(word):
     """The integer from 0 on that stands in this string as Python writes it; None if none does."""
-    if word == "" or not all([sign in FIGURES for sign in word]):
+    if word == "" or not has_only(word, FIGURES):
         return None
     if word[0] == "0" and word != "0":
         return None
@@ -37,7 +43,7 @@ def number_in(word):
 
 def are_cells(value):
     """Whether it is a string of cells."""
-    return isinstance(value, str) and all([sign in CELLS for sign in value])
+    return isinstance(value, str) and has_only(value, CELLS)
 
 
 def is_cell(value):
@@ -95,9 +101,9 @@ def are_keyed(value, may_be_none):
 
 def is_name(value):
     """Whether it is a name of a file or folder."""
-    if not isinstance(value, str) or not 1 <= len(value) <= MOST_NAME or value in (".", ".."):
+    if not isinstance(value, str) or not 1 <= len(value) <= MOST_NAME:
         return False
-    return all([sign in NAME_SIGNS for sign in value])
+    return has_only(value, NAME_SIGNS) and value not in (".", "..")
 
 
 def is_path(value):
