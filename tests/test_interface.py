@@ -6,7 +6,10 @@ import unittest
 
 from worneven import chips, codes, errors
 from worneven.chips import Chip
+from worneven.desk import Desk
+from worneven.files import Files
 from worneven.grounds import Ground
+from worneven.shell import Shell
 
 PAGE = "0123456789abcdef" * 16
 PROPERTIES = ("blocks", "pages", "wear", "bad", "done", "cuts", "is_on")
@@ -33,10 +36,32 @@ FUNCTIONS = {
         "node_key": ["number"], "name_key": ["number", "name"], "part_key": ["number", "part"], "node_value": ["node"],
         "node_in": ["value"], "parts": ["text"], "wrong_keys": ["items"], "tree_of": ["items"], "items_of": ["tree"],
     },
+    "quotas": {"used": ["tree", "path"], "over": ["tree"], "room_in": ["tree", "path"]},
+    "checker": {
+        "states": ["image", "pages"], "fallen": ["image", "pages"], "judged": ["image", "pages"], "health": ["chip"],
+    },
+    "scripts": {"played": ["text"], "trees": ["text"], "cuts": ["text", "pattern"]},
+    "journals": {"journal": ["desk"], "read_journal": ["text"]},
     "walks": {
         "walk": ["tree", "path"], "names_of": ["tree", "path"], "holding": ["tree", "path", "part"], "deepest": ["tree"],
     },
 }
+CLASSES = {
+    "files": ("Files", ["chip"], ["ground"], {
+        "make_folder": ["self", "path"], "put": ["self", "path", "text"], "write": ["self", "path", "at", "text"], "cut_to": ["self", "path", "size"],
+        "add_name": ["self", "path", "other"], "remove": ["self", "path"], "move": ["self", "path", "other"], "quota": ["self", "path", "number"],
+        "together": ["self", "deeds"], "read": ["self", "path"], "names": ["self", "path"], "look": ["self", "path"], "tree": ["self"],
+    }),
+    "shell": ("Shell", ["blocks", "pages"], [], {"say": ["self", "line"]}),
+    "desk": ("Desk", ["blocks", "pages"], ["shell", "lines", "answers", "blocks", "pages"], {
+        "say": ["self", "line"], "undo": ["self"], "redo": ["self"], "tried": ["self", "lines"], "copy": ["self"], "__eq__": ["self", "other"],
+    }),
+}
+ERRORS = """
+BadSize BadFaults BadPlace BadCells NotEmpty Cut BadBlock BadFade BadText BadKey BadChanges BadSheet BadPlaces NoGround Full BadNumber BadImage BadName
+BadPart BadNode BadValue BadItems BadTree BadPath NoPath NotFolder There IsFolder BadSpan OverQuota Within NotEmptyFolder BadQuota BadDeeds BadLine BadScript
+BadPattern BadLines NothingToUndo NothingToRedo BadJournal
+""".split()
 GROUND = {
     "get": ["self", "key"], "items": ["self", "low", "high"], "commit": ["self", "changes"], "gather": ["self"],
     "room": ["self"],
@@ -54,6 +79,25 @@ class Interface(unittest.TestCase):
                 self.assertEqual(list(inspect.signature(found).parameters), parameters)
                 for parameter in inspect.signature(found).parameters.values():
                     self.assertIs(parameter.kind, inspect.Parameter.POSITIONAL_OR_KEYWORD)
+
+    def test_files_shells_and_desks(self):
+        made = {"files": Files(Chip(8, 4)), "shell": Shell(8, 4), "desk": Desk(8, 4)}
+        for module, (name, parameters, properties, methods) in CLASSES.items():
+            found = type(made[module])
+            self.assertEqual((found.__name__, found.__module__), (name, "worneven." + module))
+            self.assertEqual(list(inspect.signature(found).parameters), parameters)
+            for method, names in methods.items():
+                self.assertTrue(inspect.isfunction(vars(found)[method]), method)
+                self.assertEqual(list(inspect.signature(vars(found)[method]).parameters), names)
+            for prop in properties:
+                self.assertIn(prop, vars(found))
+                self.assertTrue(hasattr(made[module], prop))
+
+    def test_all_errors(self):
+        self.assertEqual(sorted(ERRORS + ["FlashError"]), sorted(name for name, made in vars(errors).items() if inspect.isclass(made)))
+        for name in ERRORS:
+            self.assertEqual(vars(errors)[name].__bases__, (errors.FlashError,))
+            self.assertIsNone(vars(errors)[name](None).value)
 
     def test_the_ground(self):
         self.assertEqual(Ground.__module__, "worneven.grounds")

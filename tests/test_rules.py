@@ -19,7 +19,7 @@ BUILTINS = set("""
 len range enumerate zip min max sum abs sorted reversed int str bool list tuple dict set isinstance ord repr any all
 divmod pow getattr hasattr setattr map iter next Exception ValueError TypeError KeyError IndexError LookupError
 ZeroDivisionError ArithmeticError OverflowError RuntimeError NotImplementedError AttributeError StopIteration
-NotImplemented bytes property staticmethod classmethod super
+NotImplemented bytes property staticmethod classmethod super type
 """.split())
 DOUBLE = {"__init__", "__eq__", "__repr__", "__str__", "__len__", "__enter__", "__exit__", "__call__", "__iter__"}
 BARRED = set("""

@@ -1,7 +1,8 @@
 """A flash chip of blocks of pages of cells, with the faults that it shall have."""
 
+from worneven.codes import text_told
 from worneven.errors import BadBlock, BadCells, BadFade, BadFaults, BadPlace, BadSize, Cut, NotEmpty
-from worneven.words import EMPTY_PAGE, PAGE_CELLS, are_cells, is_between, is_cell, is_integer, is_page
+from worneven.words import EMPTY_PAGE, PAGE_CELLS, is_between, is_cell, is_integer, is_page, is_pattern
 
 # The word of a deed for which no fault is told.
 NO_FAULT = ""
@@ -12,9 +13,7 @@ def is_fault(value):
     if not isinstance(value, tuple) or len(value) != 3:
         return False
     at, word, pattern = value
-    if not is_integer(at) or word not in ("cut", "bad"):
-        return False
-    return are_cells(pattern) and 1 <= len(pattern) <= PAGE_CELLS
+    return is_integer(at) and word in ("cut", "bad") and is_pattern(pattern)
 
 
 def are_faults(value):
@@ -53,6 +52,8 @@ class Chip:
         self._cells = [EMPTY_PAGE] * (blocks * pages)
         # Whether a page stands just as it was written, so that a cell of it may fall.
         self._stands = [False] * (blocks * pages)
+        # The cells that were read for a text last, and that text: the same page need not be read again.
+        self._texts = [(EMPTY_PAGE, None)] * (blocks * pages)
         self._wear = [0] * blocks
         self._is_bad = [False] * blocks
         self._done = 0
@@ -99,6 +100,13 @@ class Chip:
         self._check_place(place)
         return self._cells[place]
 
+    def text(self, place):
+        """The text of the page at this place, be it whole or mended; None if it is neither."""
+        cells = self.read(place)
+        if self._texts[place][0] != cells:
+            self._texts[place] = (cells, text_told(cells))
+        return self._texts[place][1]
+
     def write(self, place, cells):
         """Lets the cells of an empty page fall to these: whether it did, wholly."""
         self._check_place(place)
@@ -139,6 +147,15 @@ class Chip:
         self._cells[place] = cells[:cell] + sign + cells[cell + 1:]
         self._stands[place] = False
 
+    def doom(self, ahead, word, pattern):
+        """Tells a fault more, for the deed so many from now: whether none was told for it yet."""
+        at = self._done + ahead
+        if at in self._fault_at:
+            return False
+        self._fault_at[at] = (word, pattern)
+        self._faults = tuple(sorted([*self._faults, (at, word, pattern)]))
+        return True
+
     def image(self):
         """The cells of all pages, by places."""
         return tuple(self._cells)
@@ -148,6 +165,7 @@ class Chip:
         twin = Chip(self._blocks, self._pages, self._faults)
         twin._cells = list(self._cells)
         twin._stands = list(self._stands)
+        twin._texts = list(self._texts)
         twin._wear = list(self._wear)
         twin._is_bad = list(self._is_bad)
         twin._done = self._done

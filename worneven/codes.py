@@ -1,7 +1,7 @@
 """A code by which a page is exactly one of empty, whole, mended and torn."""
 
 from worneven.errors import BadCells, BadText
-from worneven.words import CELLS, EMPTY_PAGE, PAGE_CELLS, is_page, is_page_text, is_sign_number
+from worneven.words import CELLS, EMPTY_PAGE, PAGE_CELLS, SIGNS, is_page, is_page_text
 
 TEXT_CELLS = 226
 # What each cell lacks of f.
@@ -9,8 +9,6 @@ LACKS = {
     "0": 15, "1": 14, "2": 13, "3": 12, "4": 11, "5": 10, "6": 9, "7": 8,
     "8": 7, "9": 6, "a": 5, "b": 4, "c": 3, "d": 2, "e": 1, "f": 0,
 }
-# All signs by their numbers from 32 on; no sign has the number 37, so a blank keeps its place.
-SIGNS = " !\"#$ &'()*+,-./0123456789:;<=>?@ABCDEFGHIJKLMNOPQRSTUVWXYZ[\\]^_`abcdefghijklmnopqrstuvwxyz{|}~"
 
 
 def sums_of(body):
@@ -58,7 +56,7 @@ def sign_of(number):
     """The sign or line feed of this number in ASCII; None if neither has it."""
     if number == 10:
         return "\n"
-    return SIGNS[number - 32] if is_sign_number(number) else None
+    return SIGNS[number - 32] if 32 <= number <= 126 and number != 37 else None
 
 
 def text_in(cells):
@@ -117,3 +115,9 @@ def opened(cells):
     if told is None:
         told = told_by(cells, lifted(cells))
     return ("torn",) if told is None else told
+
+
+def text_told(cells):
+    """The text of what surely is a page of cells, whole or mended; None if it is neither."""
+    told = opened(cells)
+    return told[1] if told[0] in ("whole", "mended") else None

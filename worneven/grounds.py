@@ -1,10 +1,11 @@
 """Grounds: one map on a chip, kept by a ring of blocks and newest roots."""
 
+from worneven.codes import text_told
 from worneven.errors import BadChanges, BadImage, BadNumber, Full, NoGround
 from worneven.maps import map_anew, map_get, map_items, map_places, map_with, written
 from worneven.rings import Ring
-from worneven.roots import map_told, newest_root, root_text, text_told
-from worneven.words import are_keyed, is_between, is_from, is_page
+from worneven.roots import map_told, newest_root, root_text
+from worneven.words import GREATEST_KEY, LEAST_KEY, are_keyed, is_between, is_from, is_page
 
 
 def told_room(entries, good, pages):
@@ -55,8 +56,6 @@ class Ground:
     def __init__(self, chip):
         self._chip = chip
         self._ring = Ring(chip)
-        # By places, the cells that were read there last, and their text: the chip alone says what lies there.
-        self._read = {}
         self._number = 0
         self._page = None
         self._root = None
@@ -91,6 +90,10 @@ class Ground:
         """All (key, value) with a key from low to high, ascending."""
         return map_items(self._look, self._root, low, high)
 
+    def held(self):
+        """All (key, value) of the map, ascending."""
+        return map_items(self._look, self._root, LEAST_KEY, GREATEST_KEY)
+
     def commit(self, changes):
         """Changes the map, wholly or not at all."""
         if not are_keyed(changes, True):
@@ -123,10 +126,7 @@ class Ground:
 
     def _look(self, place):
         """The text of the page at this place; None if it is neither whole nor mended."""
-        cells = self._chip.read(place)
-        if place not in self._read or self._read[place][0] != cells:
-            self._read[place] = (cells, text_told(cells))
-        return self._read[place][1]
+        return self._chip.text(place)
 
     def _stand_on(self, texts):
         """The map is the one to which the newest root leads."""

@@ -14,10 +14,15 @@ def check_number(number):
         raise BadNumber(number)
 
 
+def number_word(number):
+    """The number of a node in four figures."""
+    return f"{number:04d}"
+
+
 def node_key(number):
     """The key of what this node is."""
     check_number(number)
-    return f"n{number:04d}"
+    return f"n{number_word(number)}"
 
 
 def name_key(number, name):
@@ -25,7 +30,7 @@ def name_key(number, name):
     check_number(number)
     if not is_name(name):
         raise BadName(name)
-    return f"e{number:04d}{name}"
+    return f"e{number_word(number)}{name}"
 
 
 def part_key(number, part):
@@ -33,7 +38,7 @@ def part_key(number, part):
     check_number(number)
     if not is_between(part, 0, MOST_PART):
         raise BadPart(part)
-    return f"t{number:04d}{part:02d}"
+    return f"t{number_word(number)}{part:02d}"
 
 
 def is_node(node):
@@ -151,6 +156,12 @@ class Shape:
         size = self.nodes[number][1]
         return [min(PART, size - at) for at in range(0, size, PART)]
 
+    def what(self, number):
+        """What surely is a node of a tree: ("folder", quota), or ("file", text)."""
+        if self.is_folder(number):
+            return self.nodes[number]
+        return "file", "".join([self.pieces[(number, part)] for part in range(len(self.lengths(number)))])
+
     def called(self):
         """By numbers, how many names tell this node."""
         many = {}
@@ -250,11 +261,8 @@ def tree_of(items):
         names.setdefault(number, []).append(path)
     rows = []
     for path, number in paths:
-        what = shape.nodes[number]
-        if what[0] == "file":
-            text = "".join([shape.pieces[(number, part)] for part in range(len(shape.lengths(number)))])
-            what = ("file", text, tuple(names[number]))
-        rows.append((path, what))
+        what = shape.what(number)
+        rows.append((path, what if what[0] == "folder" else (*what, tuple(names[number]))))
     return tuple(rows)
 
 
@@ -265,22 +273,22 @@ def items_of(tree):
     items = []
     many = 0
     for path, what in tree:
-        first = path if what[0] == "folder" else what[2][0]
-        if first == path:
+        names = (path,) if what[0] == "folder" else what[2]
+        if names[0] == path:
             many += 1
             numbers[path] = many
-            items.extend(items_of_node(many, what))
+            items.extend(items_of_node(many, what[:2], len(names)))
         if path != "/":
-            items.append((name_key(numbers[folder_of(path)], name_of(path)), f"{numbers[first]:04d}"))
+            items.append((name_key(numbers[folder_of(path)], name_of(path)), number_word(numbers[names[0]])))
     return tuple(sorted(items))
 
 
-def items_of_node(number, what):
-    """The items that tell a node, but for its names."""
+def items_of_node(number, what, links):
+    """The items that tell ("folder", quota) or ("file", text) with so many names, but for these names."""
     if what[0] == "folder":
         return [(node_key(number), node_value(what))]
-    _, text, names = what
-    items = [(node_key(number), node_value(("file", len(text), len(names))))]
+    text = what[1]
+    items = [(node_key(number), node_value(("file", len(text), links)))]
     for part, told in enumerate(parts_of(text)):
         items.append((part_key(number, part), told))
     return items

@@ -1,6 +1,5 @@
 """Root pages, the newest of them, and the map to which it leads."""
 
-from worneven.codes import opened
 from worneven.maps import sheet_of
 from worneven.words import number_in
 
@@ -20,12 +19,6 @@ def root_in(text):
     if number is None or number == 0 or (place is None and words[2] != "-"):
         return None
     return number, place
-
-
-def text_told(cells):
-    """The text of what surely is a page of cells, whole or mended; None if it is neither."""
-    told = opened(cells)
-    return told[1] if told[0] in ("whole", "mended") else None
 
 
 def newest_root(texts):

@@ -23,6 +23,13 @@ def path_in(folder, name):
     return "/" + name if folder == "/" else folder + "/" + name
 
 
+def beginnings(path):
+    """The path and all in which it lies, the root folder first."""
+    if path == "/":
+        return ["/"]
+    return ["/"] + [path[:at] for at in range(1, len(path)) if path[at] == "/"] + [path]
+
+
 def is_quota(value):
     """Whether it is a folder's quota, or none."""
     return value is None or is_between(value, 0, MOST_QUOTA)

@@ -2,13 +2,18 @@
 
 CELLS = "0123456789abcdef"
 FIGURES = "0123456789"
+# All signs by their numbers from 32 on; no sign has the number 37, so a blank keeps its place.
+SIGNS = " !\"#$ &'()*+,-./0123456789:;<=>?@ABCDEFGHIJKLMNOPQRSTUVWXYZ[\\]^_`abcdefghijklmnopqrstuvwxyz{|}~"
 NAME_SIGNS = "abcdefghijklmnopqrstuvwxyz0123456789.-"
 PAGE_CELLS = 256
 EMPTY_PAGE = "f" * 256
 MOST_PAGE_TEXT = 113
 MOST_KEY = 13
+LEAST_KEY = "!"
+GREATEST_KEY = "~~~~~~~~~~~~~"
 MOST_NAME = 8
 MOST_TEXT = 600
+MOST_LINE = 700
 
 
 def is_integer(value):
@@ -41,9 +46,22 @@ def number_in(word):
     return int(word)
 
 
+def integer_in(word):
+    """The integer that stands in this string as Python writes it; None if none does."""
+    if not word.startswith("-"):
+        return number_in(word)
+    number = number_in(word[1:])
+    return None if number is None or number == 0 else -number
+
+
 def are_cells(value):
     """Whether it is a string of cells."""
     return isinstance(value, str) and has_only(value, CELLS)
+
+
+def is_pattern(value):
+    """Whether it is a pattern of cells by which a deed of a chip is torn."""
+    return are_cells(value) and 1 <= len(value) <= PAGE_CELLS
 
 
 def is_cell(value):
@@ -56,23 +74,14 @@ def is_page(value):
     return isinstance(value, str) and len(value) == PAGE_CELLS and are_cells(value)
 
 
-def is_sign_number(number):
-    """Whether a sign has this number in ASCII: 37, the percent sign, is none."""
-    return 32 <= number <= 126 and number != 37
-
-
 def are_signs(value, least, most):
     """Whether it is a string of so many signs."""
-    if not isinstance(value, str) or not least <= len(value) <= most:
-        return False
-    return all([is_sign_number(ord(sign)) for sign in value])
+    return isinstance(value, str) and least <= len(value) <= most and has_only(value, SIGNS)
 
 
 def is_page_text(value):
     """Whether it is page text: few enough signs and line feeds."""
-    if not isinstance(value, str) or len(value) > MOST_PAGE_TEXT:
-        return False
-    return all([sign == "\n" or is_sign_number(ord(sign)) for sign in value])
+    return isinstance(value, str) and len(value) <= MOST_PAGE_TEXT and has_only(value, SIGNS + "\n")
 
 
 def is_key(value):
@@ -118,3 +127,8 @@ def is_path(value):
 def is_text(value):
     """Whether it is the text of a file."""
     return are_signs(value, 0, MOST_TEXT)
+
+
+def is_line(value):
+    """Whether it is a line for a shell."""
+    return are_signs(value, 0, MOST_LINE)
