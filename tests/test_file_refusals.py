@@ -169,6 +169,15 @@ class OpeningRefusals(unittest.TestCase):
         bare.write(0, image[2])
         assert_refused(self, NoGround, None, Files, bare)
 
+    def test_a_map_that_is_no_tree(self):
+        # Of such a chip the document says nothing: it is refused rather than walked in circles.
+        for changes in ((("a", "1"),), (("e0001a", "0002"), ("e0002b", "0002"), ("n0001", "d"), ("n0002", "d"))):
+            chip = Chip(8, 4)
+            Ground(chip).commit(changes)
+            image = chip.image()
+            assert_refused(self, NoGround, None, Files, chip)
+            self.assertEqual(chip.image(), image)
+
     def test_torn_pages_alone_are_no_reason(self):
         chip = Chip(4, 4)
         for place in range(16):

@@ -172,6 +172,7 @@ class Rules(unittest.TestCase):
                     self.assertNotIn(node.arg, builtin, f"{file}, line {node.lineno}")
             code = "\n".join(line.partition("#")[0] for line in text.split("\n"))
             self.assertEqual(set(re.findall(r"[A-Za-z_]\w*", code)) & BARRED, set(), file)
+            self.assertEqual(re.findall(r"\btype\b(?!\(\w+\)\.__name__)", code), [], file)
 
 
 if __name__ == "__main__":

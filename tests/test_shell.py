@@ -5,7 +5,9 @@ import unittest
 from refusals import assert_refused, values_of_all_kinds
 
 from worneven.chips import Chip
+from worneven.codes import sealed
 from worneven.errors import BadLine, BadSize, Cut
+from worneven.grounds import Ground
 from worneven.shell import Shell
 
 
@@ -198,6 +200,22 @@ class Faults(unittest.TestCase):
         self.shell._chip = chip
         self.say(("ls /", "off"), ("on", "cut"), ("on ", "off"), ("check", "off"), ("on", "ok"), ("on", "?"), ("check", "right"), ("ls /", ""), ("put /a x", "cut"))
         self.say(("on", "ok"), ("put /a x", "ok"), ("ls /", "a"))
+
+    def test_what_check_tells_of_an_image_that_files_never_leave(self):
+        chip = Chip(8, 4)
+        self.shell._chip = chip
+        self.say(("check", "none"))
+        ground = Ground(chip)
+        self.say(("check", "right"))
+        ground.commit((("a", "one"),))
+        self.say(("check", "wrong 2 tree"))
+        chip.write(7, chip.read(2))
+        chip.write(8, sealed("root\n9\n3"))
+        self.say(("check", "wrong 8 map"))
+        for block in (0, 1, 2):
+            chip.erase(block)
+        chip.write(11, sealed("no root"))
+        self.say(("check", "wrong 11 root"))
 
     def test_wear(self):
         for lap in range(60):

@@ -33,11 +33,9 @@ def check_folder(draft, path):
 
 
 def check_free(draft, path):
-    """Raises an error unless the path is free for a name."""
+    """Raises an error unless the path is free for a name; the root folder's never is, as it is there."""
     if not is_path(path):
         raise BadPath(path)
-    if path == "/":
-        raise There(path)
     check_walk(draft, folder_of(path))
     check_folder(draft, folder_of(path))
     if draft.has(path):
